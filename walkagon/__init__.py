@@ -1,0 +1,1 @@
+"""Polygons that walk by flipping their corners."""

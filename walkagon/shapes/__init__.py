@@ -1,0 +1,1 @@
+"""Polygons and their flips."""
