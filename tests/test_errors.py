@@ -3,6 +3,7 @@
 import unittest
 
 from walkagon import errors
+from walkagon.reach.reasons import Congruence, JointCount, Reason, StickCount
 
 ARGUMENTS = {
     "BadPolygon": ("index", (0, 3, 8)),
@@ -16,6 +17,9 @@ ARGUMENTS = {
     "UnknownField": ("name", ("", "width")),
 }
 PLAIN = ("BadPlaces", "NotPlane")
+# Every class takes any of these: numbers, texts, vectors and reasons.
+VALUES = (0, -1, 8, 5001, -(10 ** 15), 10 ** 40, "", "area", "a b\nc", (0, 0), (1, 0), (-(10 ** 15), 10 ** 15),
+          Reason(), JointCount(), StickCount((1, -2)), Congruence(1, 1, 2))
 
 
 def made_errors():
@@ -39,6 +43,13 @@ class ErrorTest(unittest.TestCase):
                 with self.subTest(name=name, value=value):
                     error = getattr(errors, name)(**{attribute: value})
                     self.assertEqual(getattr(error, attribute), value)
+
+    def test_each_kind_of_value(self):
+        for name, (attribute, _) in ARGUMENTS.items():
+            for value in VALUES:
+                with self.subTest(name=name, value=value):
+                    self.assertIs(getattr(getattr(errors, name)(value), attribute), value)
+                    self.assertIs(getattr(getattr(errors, name)(**{attribute: value}), attribute), value)
 
     def test_stored_attributes_are_the_arguments_only(self):
         for name, error in made_errors().items():

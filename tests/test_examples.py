@@ -5,8 +5,12 @@ import unittest
 from pathlib import Path
 
 from walkagon.errors import NotClosed
+from walkagon.reach.lattice import combination
+from walkagon.reach.reasons import Congruence
 from walkagon.shapes.polygons import Polygon
 from walkagon.shapes.steps import steps
+from walkagon.shifts.language import mean_motion, run
+from walkagon.shifts.shift import Shift
 
 README = Path(__file__).resolve().parent.parent / "README.md"
 
@@ -29,6 +33,26 @@ class DocumentTest(unittest.TestCase):
     def test_steps(self):
         self.assertEqual(repr(list(steps(Polygon((0, 0), (1, 0), (0, 1)), (0,)))),
                          "[Polygon((0, 0), (1, 0), (0, 1)), Polygon((1, 1), (1, 0), (0, 1))]")
+
+    def test_combination(self):
+        self.assertEqual(repr(combination(((2, 0), (0, 3)), (4, -3))), "(2, -1)")
+
+    def test_reasons(self):
+        square = Polygon((0, 0), (1, 0), (1, 1), (0, 1))
+        reason = Congruence(1, 1, 2)
+        self.assertEqual(repr([reason.holds(square, square.moved((1, 0))), reason.told()]),
+                         "[True, 'unreachable: 1*x + 1*y modulo 2']")
+
+    def test_shift(self):
+        shift = Shift.of_joints(3, (0, 1, 2))
+        self.assertEqual(repr([shift, shift.passes, shift.first_joints()]), "[Shift(1, 3, -1), 3, (0, 1, 2)]")
+
+    def test_mean_motion(self):
+        self.assertEqual(repr(mean_motion(Polygon((0, 0), (1, 0), (0, 1)), "0 1 2")), "((0, 1), (3, 2))")
+
+    def test_run(self):
+        self.assertEqual(repr(run(Polygon((0, 0), (1, 0), (0, 1)), "( 0 1 2 )*2")),
+                         "Polygon((0, 3), (1, 3), (0, 4))")
 
 
 class ReadmeTest(unittest.TestCase):

@@ -6,10 +6,11 @@ from pathlib import Path
 
 ROOT = Path(__file__).resolve().parent.parent
 PACKAGE = ROOT / "walkagon"
+LIBRARY = {"math": ("gcd", "lcm", "isqrt", "comb", "perm", "factorial")}
 DOUBLE_UNDERSCORE = ("__init__", "__eq__", "__repr__", "__str__", "__len__")
 BUILTINS = ("len", "range", "enumerate", "zip", "min", "max", "sum", "abs", "sorted", "reversed", "int", "str",
             "bool", "list", "tuple", "dict", "set", "isinstance", "ord", "repr", "any", "all", "divmod",
-            "ValueError", "KeyError", "IndexError", "super", "property", "staticmethod", "classmethod")
+            "type", "ValueError", "KeyError", "IndexError", "super", "property", "staticmethod", "classmethod")
 
 
 def files():
@@ -66,6 +67,9 @@ class SourceTest(unittest.TestCase):
                 if isinstance(node, ast.ImportFrom):
                     with self.subTest(path=path, module=node.module):
                         self.assertEqual(node.level, 0)
+                        if node.module in LIBRARY:
+                            self.assertLessEqual({alias.name for alias in node.names}, set(LIBRARY[node.module]))
+                            continue
                         self.assertTrue(node.module.startswith("walkagon."))
                         file = ROOT / (node.module.replace(".", "/") + ".py")
                         self.assertTrue(file.is_file())
@@ -79,6 +83,15 @@ class SourceTest(unittest.TestCase):
                 if isinstance(node, ast.Name) and node.id not in own:
                     with self.subTest(path=path, line=node.lineno):
                         self.assertIn(node.id, BUILTINS)
+
+    def test_stars_stand_before_names(self):
+        for path, tree in trees():
+            for node in ast.walk(tree):
+                if isinstance(node, ast.Call):
+                    for argument in node.args:
+                        if isinstance(argument, ast.Starred):
+                            with self.subTest(path=path, line=node.lineno):
+                                self.assertIsInstance(argument.value, ast.Name)
 
     def test_names(self):
         for path, tree in trees():

@@ -19,3 +19,8 @@ def cross(first, second):
 def total(vectors):
     """The sum of any number of vectors."""
     return sum([vector[0] for vector in vectors]), sum([vector[1] for vector in vectors])
+
+
+def scaled(vector, factor):
+    """The multiple of a vector."""
+    return vector[0] * factor, vector[1] * factor

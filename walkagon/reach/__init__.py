@@ -1,0 +1,1 @@
+"""Which polygons flips lead to."""

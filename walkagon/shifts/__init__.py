@@ -1,0 +1,1 @@
+"""How flips rearrange sticks, and the scripts of flips."""
