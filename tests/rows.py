@@ -128,3 +128,45 @@ def places_of(sides, tree):
         count = 1 if repeats is None else repeats
         places = composed(places, powered(part, -count if opening == "~(" else count))
     return places
+
+
+def moved_points(points, places):
+    """Point 8 of the document: the points of a polygon after the shift with these places."""
+    sides = len(points)
+    old = [(after[0] - point[0], after[1] - point[1]) for point, after in zip(points, points[1:] + points[:1])]
+    x, y = points[0]
+    for place in places:
+        x += place // sides * old[place % sides][0]
+        y += place // sides * old[place % sides][1]
+    found = []
+    for place in places:
+        found.append((x, y))
+        x, y = x + old[place % sides][0], y + old[place % sides][1]
+    return tuple(found)
+
+
+def tree_of(script, sides):
+    """The tree of a script; raises ValueError if the string is none for polygons with so many joints (point 11)."""
+    parts = [[]]
+    openings = []
+    for token in script.split(" ") if script else []:
+        if token in ("(", "~("):
+            openings.append(token)
+            parts.append([])
+            if len(openings) > 6:
+                raise ValueError(token)
+            continue
+        word, star, digits = token.partition("*")
+        repeats = int(digits) if star else None
+        if star and (digits != str(repeats) or not 0 <= repeats <= FAR_COUNT):
+            raise ValueError(token)
+        if word == ")":
+            inside = parts.pop()
+            parts[-1].append((openings.pop(), inside, repeats))
+        elif word in [str(joint) for joint in range(sides)]:
+            parts[-1].append(("", int(word), repeats))
+        else:
+            raise ValueError(token)
+    if openings:
+        raise ValueError(openings)
+    return parts[0]

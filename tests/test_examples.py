@@ -5,12 +5,15 @@ import unittest
 from pathlib import Path
 
 from walkagon.errors import NotClosed
+from walkagon.least.numbers import first_flips
+from walkagon.least.rings import ring_sizes
 from walkagon.reach.lattice import combination
 from walkagon.reach.reasons import Congruence
 from walkagon.shapes.polygons import Polygon
 from walkagon.shapes.steps import steps
 from walkagon.shifts.language import mean_motion, run
 from walkagon.shifts.shift import Shift
+from walkagon.walker import Walker
 
 README = Path(__file__).resolve().parent.parent / "README.md"
 
@@ -53,6 +56,22 @@ class DocumentTest(unittest.TestCase):
     def test_run(self):
         self.assertEqual(repr(run(Polygon((0, 0), (1, 0), (0, 1)), "( 0 1 2 )*2")),
                          "Polygon((0, 3), (1, 3), (0, 4))")
+
+    def test_first_flips(self):
+        triangle = Polygon((0, 0), (1, 0), (0, 1))
+        self.assertEqual(repr(first_flips(triangle, triangle.moved((1, 1)))), "(0, 1, 2, 1)")
+
+    def test_ring_sizes(self):
+        self.assertEqual(repr(ring_sizes(Polygon((0, 0), (1, 0), (0, 1)), 3)), "(1, 3, 6, 9)")
+
+    def test_walker(self):
+        walker = Walker.at("0,0 1,0 0,1")
+        flipped = walker.flip(0)
+        undone = walker.undo()
+        self.assertEqual(repr([flipped, undone]),
+                         "[Polygon((1, 1), (1, 0), (0, 1)), Polygon((0, 0), (1, 0), (0, 1))]")
+        self.assertEqual(repr([walker.polygon, walker.describe(position=True, entries=True, area=False)]),
+                         "[Polygon((0, 0), (1, 0), (0, 1)), {'position': (0, 0), 'entries': 0}]")
 
 
 class ReadmeTest(unittest.TestCase):

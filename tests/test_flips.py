@@ -5,19 +5,10 @@ from itertools import product
 from random import Random
 
 from tests.samples import SIDES, all_samples, simple_points, wrong_joints
+from tests.search import plainly_flipped
 from walkagon.errors import BadJoint
 from walkagon.shapes.polygons import Polygon
 from walkagon.shapes.steps import play
-
-
-def plainly_flipped(points, joints):
-    """The points after the flips, one joint after another, as the document words it."""
-    count = len(points)
-    rest = list(points)
-    for i in joints:
-        before, after = rest[(i - 1) % count], rest[(i + 1) % count]
-        rest[i] = (before[0] + after[0] - rest[i][0], before[1] + after[1] - rest[i][1])
-    return tuple(rest)
 
 
 def flips_of(polygon, joints, **keywords):

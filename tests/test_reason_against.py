@@ -3,38 +3,14 @@
 import unittest
 from random import Random
 
+from tests.goals import shuffled, starts
 from tests.lattices import differences, flips_lead, known_reason, summed
-from tests.samples import FAR, SIDES, all_samples, far_points, simple_points
+from tests.samples import FAR, SIDES, far_points, simple_points
 from walkagon.reach.reasons import Congruence, JointCount, StickCount, reason_against
 from walkagon.shapes.polygons import Polygon
 
 NO_REASON = (StickCount((0, 0)), StickCount((1, 0)), Congruence(1, 0, 2), Congruence(1, 1, 2), Congruence(1, 0, 0),
              Congruence(2, -1, 5), Congruence(0, 1, 3))
-
-
-def even_points(maker, sides):
-    """Polygons that reach few points: the differences of their sticks are multiples of across and of along."""
-    across, along = sides * maker.randint(1, 5), sides * maker.randint(0, 5)
-    x, y = maker.randint(-2, 2) * across // sides, maker.randint(-2, 2) * along // sides
-    points = [(maker.randint(-9, 9), maker.randint(-9, 9))]
-    for _ in range(sides - 1):
-        points.append((points[-1][0] + x + across * maker.randint(-3, 3),
-                       points[-1][1] + y + along * maker.randint(-3, 3)))
-    return tuple(points)
-
-
-def starts():
-    maker = Random(51)
-    found = [Polygon(*points) for points in all_samples()]
-    return found + [Polygon(*even_points(maker, sides)) for sides in SIDES for _ in range(15)]
-
-
-def shuffled(maker, polygon, move):
-    """The sticks in any order, and joint 0 moved."""
-    sticks = list(polygon.sticks)
-    maker.shuffle(sticks)
-    x, y = polygon.points[0]
-    return Polygon.from_sticks((x + move[0], y + move[1]), *sticks)
 
 
 class ReasonAgainstTest(unittest.TestCase):

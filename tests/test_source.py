@@ -6,7 +6,8 @@ from pathlib import Path
 
 ROOT = Path(__file__).resolve().parent.parent
 PACKAGE = ROOT / "walkagon"
-LIBRARY = {"math": ("gcd", "lcm", "isqrt", "comb", "perm", "factorial")}
+LIBRARY = {"math": ("gcd", "lcm", "isqrt", "comb", "perm", "factorial"),
+           "itertools": ("product", "combinations", "permutations")}
 DOUBLE_UNDERSCORE = ("__init__", "__eq__", "__repr__", "__str__", "__len__")
 BUILTINS = ("len", "range", "enumerate", "zip", "min", "max", "sum", "abs", "sorted", "reversed", "int", "str",
             "bool", "list", "tuple", "dict", "set", "isinstance", "ord", "repr", "any", "all", "divmod",

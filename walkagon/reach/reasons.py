@@ -1,7 +1,8 @@
 """Why no flips lead from one polygon to another one."""
 
+from walkagon.errors import Unreachable
 from walkagon.reach.bases import basis
-from walkagon.shapes.vectors import minus
+from walkagon.shapes.vectors import differences, minus
 
 
 class Reason:
@@ -68,8 +69,7 @@ class Congruence(Reason):
 
     def holds(self, start, goal):
         """Whether the sticks of start agree, and the vector between the joints 0 is not 0."""
-        sticks = start.sticks
-        agree = all([self._vanishes(minus(stick, sticks[0])) for stick in sticks])
+        agree = all([self._vanishes(vector) for vector in differences(start.sticks)])
         return agree and not self._vanishes(minus(goal.points[0], start.points[0]))
 
     def _vanishes(self, vector):
@@ -84,8 +84,7 @@ class Congruence(Reason):
 
 def congruences(polygon):
     """Two congruences; the motions of joint 0 that flips make are those against which neither holds."""
-    sticks = polygon.sticks
-    first, second = basis([minus(stick, sticks[0]) for stick in sticks])
+    first, second = basis(differences(polygon.sticks))
     # The differences of sticks are the multiples of (x, y) and (0, h); if x is 0, the first of these is (0, 0).
     scale = max(first[0], 1)
     return Congruence(1, 0, first[0]), Congruence(-first[1], scale, scale * second[1])
@@ -102,3 +101,10 @@ def reason_against(start, goal):
         if reason.holds(start, goal):
             return reason
     return None
+
+
+def check_reachable(start, goal):
+    """Raise Unreachable if no flips lead from start to goal."""
+    reason = reason_against(start, goal)
+    if reason is not None:
+        raise Unreachable(reason)

@@ -21,6 +21,11 @@ def total(vectors):
     return sum([vector[0] for vector in vectors]), sum([vector[1] for vector in vectors])
 
 
+def differences(vectors):
+    """The list of the differences of each vector but the first one and the first one."""
+    return [minus(vector, vectors[0]) for vector in vectors[1:]]
+
+
 def scaled(vector, factor):
     """The multiple of a vector."""
     return vector[0] * factor, vector[1] * factor

@@ -33,6 +33,13 @@ def exchanged(row, joint):
     return results
 
 
+def passes_of(windings):
+    """The least number of flips that move the sticks to these places."""
+    sides = len(windings)
+    return sum([abs((later - winding) // sides)
+                for index, winding in enumerate(windings) for later in windings[index + 1:]])
+
+
 def first_crossing(windings):
     """The least joint whose two sticks have yet to pass each other; None if all sticks are where they belong."""
     before = windings[-1] - len(windings)
@@ -77,10 +84,7 @@ class Shift:
     @property
     def passes(self):
         """The least number of flips that make the shift."""
-        windings = self.windings
-        sides = len(windings)
-        return sum([abs((later - winding) // sides)
-                    for index, winding in enumerate(windings) for later in windings[index + 1:]])
+        return passes_of(self.windings)
 
     def then(self, other):
         """The shift of this one followed by the other one."""

@@ -1,0 +1,1 @@
+"""The least numbers of flips."""
